@@ -287,20 +287,21 @@ func TestCoversWritten(t *testing.T) {
 	}
 }
 
-// TestACornerOnASample is a line whose length is whole, as the strip's four sides are then told without a root that goes on: of its
-// corners, all of which are samples, just the one at the first end, on the left, is in it.
-func TestACornerOnASample(t *testing.T) {
-	there, back := job{win(16, 16, 0), win(40, 48, 0), 5}, job{win(40, 48, 0), win(16, 16, 0), 5}
+// TestCornersOnSamples holds a line, there and back, of whose strip all four corners are samples, since its length is whole: just the
+// corner at the first end, on the left, is in it.
+func TestCornersOnSamples(t *testing.T) {
+	there, back := job{win(16, 16, 0), win(112, 144, 0), 5}, job{win(112, 144, 0), win(16, 16, 0), 5}
 	for _, c := range []struct {
 		j          job
 		x, y, want int
 	}{
-		// Counted out: 3i+4j from 0 to 6, and 3j-4i from -99 to 100, i and j telling how many samples it is from the first end.
-		{there, -2, 1, 12}, {there, 2, -2, 1}, {there, 0, 0, 4}, {there, -3, 1, 0}, {there, -3, 2, 0}, {there, 3, -2, 0},
-		// From the other end 3i+4j from 1 to 7.
-		{job{win(48, 48, 0), win(-48, -80, 0), 5}, 9, 9, 0}, {back, -3, 1, 0}, {back, 3, -2, 0},
+		// Counted out: i and j samples from 16 16 on, 3i+4j must be from 0 to 24, and 3j-4i from -99 to 100. The corners are in the
+		// pixels -2 1 (that of the first end, on the left), 2 -2, -2 2 and 2 -1.
+		{there, -2, 1, 37}, {there, 2, -2, 6}, {there, -2, 2, 0}, {there, 2, -1, 6}, {there, 0, 0, 32}, {there, -3, 1, 0}, {there, 3, -2, 0},
+		// Back, from 1 to 25, and from -100 to 99. The corner at the first end, on the left, is in the pixel 2 -1.
+		{back, -2, 1, 36}, {back, 2, -2, 6}, {back, -2, 2, 0}, {back, 2, -1, 7}, {back, 0, 0, 33}, {back, -3, 1, 0}, {back, 3, -2, 0},
 	} {
-		if got := c.j.cover(c.x, c.y); got != c.want || got != c.j.slowCover(c.x, c.y) {
+		if got := c.j.cover(c.x, c.y); got != c.want {
 			t.Errorf("P18.1: Cover of %+v at %d %d: %d, not %d", c.j, c.x, c.y, got, c.want)
 		}
 		checkWhole(t, c.j)
@@ -478,12 +479,10 @@ func TestLongLinesOfWholeLength(t *testing.T) {
 		// The boundary is that far from the line: on the left this way.
 		x, y int
 	}{
-		{job{win(-3*times/2+16, 16-place, 9, 255), win(3*times/2+16, place-240+256-16, deepest), 5}, 0, 0},
-		{job{win(16-place, 16-place, 0), win(16-place+3*times, 16-place+3*times/3*4-32, deepest), 5}, 0, 0},
-		{job{win(16-place, 16-place, 0), win(16-place+3*times-96, 16-place+4*times-128, deepest), 5}, -512, 384},
-		{job{win(16-place+3*times-96, 16-place+4*times-128, deepest), win(16-place, 16-place, 0), 5}, 512, -384},
-		{job{win(16-place, place-16, 0), win(16-place+3*times-96, place-16-4*times+128, deepest), 10}, 1024, 768},
-		{job{win(16-place, 16-place, 0), win(16-place+4*times-128, 16-place+3*times-96, deepest), 60}, -4608, 6144},
+		{job{win(16-place, 16-place, 0), win(16-place+3*times-768, 16-place+4*times-1024, deepest), 5}, -512, 384},
+		{job{win(16-place+3*times-768, 16-place+4*times-1024, deepest), win(16-place, 16-place, 0), 5}, 512, -384},
+		{job{win(16-place, place-16, 0), win(16-place+3*times-768, place-16-4*times+1024, deepest), 10}, 1024, 768},
+		{job{win(16-place, 16-place, 0), win(16-place+4*times-1024, 16-place+3*times-768, deepest), 60}, -4608, 6144},
 		{job{win(16-place, 16, 0), win(place-16, 16, deepest), 64}, 0, 8192}, {job{win(place-16, 16, 0), win(16-place, 16, deepest), 64}, 0, -8192},
 		{job{win(16, 16-place, 0), win(16, place-16, deepest), 1}, -128, 0}, {job{win(16, place-16, 0), win(16, 16-place, deepest), 1}, 128, 0},
 	} {
@@ -493,7 +492,7 @@ func TestLongLinesOfWholeLength(t *testing.T) {
 			checkAt(t, c.j, x+c.x, y+c.y)
 			checkAt(t, c.j, x-c.x, y-c.y)
 			checkAt(t, c.j, x+2*c.x, y+2*c.y)
-			if c.x == 0 && c.y == 0 || part == 8 {
+			if part == 8 {
 				continue
 			}
 			if left, right := c.j.isInStrip(x+c.x, y+c.y), c.j.isInStrip(x-c.x, y-c.y); !left || right {
